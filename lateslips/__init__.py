@@ -1,0 +1,1 @@
+"""Lateslips: what must be kept so that late events can be put where they belong."""

@@ -1,0 +1,63 @@
+"""The names, arguments and places that the interface lists."""
+
+import importlib
+import inspect
+import unittest
+
+INTERFACE = {
+    "machines": (
+        "checked_row(machine, value)", "end_state(machine, state, row)", "effect(machine, row)",
+        "effect_of_power(machine, row, times)", "beside(one, other)",
+    ),
+    "kernels": (
+        "kernel(machine, row)", "kernels(machine)", "row_of_kernel(machine, value)", "is_within(one, other)",
+    ),
+    "heaps": (
+        "checked_slip(machine, value)", "checked_heap(machine, value)", "row_of(machine, heap)",
+        "put_in(machine, heap, slip)", "since(machine, heap, time)", "until(machine, heap, time)",
+        "truth(machine, state, heap)",
+    ),
+    "texts": ("machine_text(machine)", "read_machine(text)"),
+    "views": (
+        "beginnings(machine, now, heap)", "answers(machine, now, heap, slip, *, among=None)",
+        "told(machine, now, heap, slip, *, among=None)",
+    ),
+    "changes": (
+        "fault(machine, change)", "is_fault(machine, change, value)", "guard(machine, change)",
+        "is_guard(machine, change, value)", "late_commands(machine)", "is_blind(machine)", "blind_fault(machine)",
+    ),
+}
+
+CLASSES = {
+    "errors": (
+        "SlipsError", "InvalidMachine", "InvalidRow", "InvalidSlip", "InvalidQuestion", "InvalidText", "Blind",
+        "Heavy", "Refused", "InvalidCommand",
+    ),
+    "machines": ("Machine",),
+}
+
+
+class InterfaceTest(unittest.TestCase):
+    def test_functions(self):
+        for name, listed in INTERFACE.items():
+            module = importlib.import_module("lateslips." + name)
+            for line in listed:
+                function = getattr(module, line.partition("(")[0])
+                self.assertEqual(function.__name__ + str(inspect.signature(function)), line)
+                self.assertEqual(function.__module__, module.__name__)
+
+    def test_classes(self):
+        for name, listed in CLASSES.items():
+            module = importlib.import_module("lateslips." + name)
+            for word in listed:
+                self.assertTrue(inspect.isclass(getattr(module, word)))
+                self.assertEqual(getattr(module, word).__module__, module.__name__)
+
+    def test_machine(self):
+        from lateslips.machines import Machine
+
+        self.assertEqual(str(inspect.signature(Machine)), "(commands, steps)")
+
+
+if __name__ == "__main__":
+    unittest.main()
