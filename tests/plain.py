@@ -124,3 +124,36 @@ SHAPES = (_any_column, _any_column, _down_column, _lower_column, _turned_column,
 
 # What is no number, whatever numbers are asked.
 NO_NUMBERS = (True, False, None, -1, "0", 0.0, (0,), [0])
+
+
+def deep_sighted(many, seed, commands=(1, 3), states=(2, 5)):
+    """As `some_sighted`, but some command of each brings states together."""
+    found = []
+    turn = 0
+    while len(found) < many:
+        turn += 1
+        wider = some_sighted(many, repr((seed, turn)), commands, states)
+        found.extend(machine for machine in wider if len(kernels(machine)) > 1)
+    return found[:many]
+
+
+def greatest(machine):
+    """The division that brings together all that any row does."""
+    found = kernels(machine)
+    states = range(machine.states)
+    return tuple(min(t for t in states if any(one[s] == one[t] for one in found)) for s in states)
+
+
+def most_kept(machine):
+    return machine.states - len(set(greatest(machine)))
+
+
+def all_sighted(commands, states):
+    return [machine for machine in every_machine(commands, states) if not is_blind(machine)]
+
+
+# Eight climbs and 162 kernels, as many as a long search could find within the limits.
+WIDE = Machine(5, [
+    (0, 0, 0, 0, 7), (1, 1, 1, 2, 1), (2, 2, 2, 2, 2), (3, 3, 2, 3, 3), (4, 4, 3, 4, 4),
+    (5, 5, 5, 1, 5), (8, 6, 6, 6, 6), (7, 7, 7, 7, 2), (2, 8, 8, 8, 8), (9, 2, 9, 9, 9),
+])

@@ -26,6 +26,22 @@ INTERFACE = {
         "fault(machine, change)", "is_fault(machine, change, value)", "guard(machine, change)",
         "is_guard(machine, change, value)", "late_commands(machine)", "is_blind(machine)", "blind_fault(machine)",
     ),
+    "notes": ("fault_pairs(machine)", "is_note(machine, value)", "least_note(machine)"),
+    "few": (
+        "is_part(one, other)", "kept_commands(machine, row)", "kept_of_power(machine, row, times)",
+        "is_enough(machine, row, value)", "greatest_kernel(machine)", "fewest_classes(machine)", "settled(machine)",
+    ),
+    "rounds": ("rounds_needed(machine)", "slow_rounds(machine)"),
+    "least": (
+        "least_rows(machine, one, other)", "meeting(machine, one, other, row)",
+        "is_meeting(machine, one, other, row, value)",
+    ),
+    "ladders": ("ladder(machine)", "count_roots(machine, kernel)", "recurrence(machine, kernel)"),
+    "counts": (
+        "rows_with_kernel(machine, length, kernel, *, modulus=None)",
+        "meeting_rows(machine, length, one, other, *, modulus=None)", "nth_row(machine, length, kernel, number)",
+    ),
+    "frees": ("is_free(machine, command, row)", "clash(machine, command, row)", "free_commands(machine, row)"),
 }
 
 CLASSES = {

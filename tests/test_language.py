@@ -95,6 +95,13 @@ class LanguageTest(unittest.TestCase):
                         self.assertIn(alias.name, defined, (name, file))
         self.no_rounds(links)
 
+    def test_imports_keep_their_names(self):
+        for name, _, tree in self.each():
+            imported = [alias.name for node in tree.body if isinstance(node, ast.ImportFrom) for alias in node.names]
+            for node in ast.walk(tree):
+                for word in bound_names(node):
+                    self.assertNotIn(word, imported, name)
+
     def no_rounds(self, links):
         done = set()
         while links:
