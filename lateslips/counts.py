@@ -87,11 +87,9 @@ def _count(rungs, targets, length, modulus):
     """How many rows of this length have one of the kernels with these indexes."""
     if modulus is None:
         return _first_counts(rungs, targets, length + 1, None)[length]
-    factors = coefficients(roots_of(rungs, targets))
     # A recurrence is far shorter than the ladder is wide.
-    first = _first_counts(rungs, targets, min(length + 1, len(factors)), modulus)
-    if length < len(first):
-        return first[length] % modulus
+    factors = coefficients(roots_of(rungs, targets))
+    first = _first_counts(rungs, targets, len(factors), modulus)
     rest = _rest_of_power(factors, length, modulus)
     return sum([one * other for one, other in zip(first, rest)]) % modulus
 

@@ -156,6 +156,8 @@ class GuardTest(unittest.TestCase):
         for value in (None, 0, list(good), good[::-1], good + good[1:], good[:1], good[1:], (), good + (None,),
                       ((0, 0, 0, 1),) + good, ((0, 1, 0, 0),) + good, (list(good[0]), good[1]),
                       ((False, True, True, False), (True, False, False, True)), ((0, 1, 1), (1, 0, 0, 1)),
+                      ((0, 0, 0, 1), (0, 1, 1, 0), (1, 0, 0, 1), (1, 1, 1, 0)),
+                      ((0, 1, 0, 0), (0, 1, 1, 0), (1, 0, 0, 1), (1, 0, 1, 1)),
                       ((0, 1, 1, 0), (1, 0, 0, 2)), ((0, 1, 1, 0), (1, 0, 0, 1, 0)), "0110"):
             self.assertIs(is_guard(SWAP, (1, 0), value), False, value)
 

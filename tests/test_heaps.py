@@ -66,6 +66,7 @@ class PutInTest(unittest.TestCase):
     def test_places(self):
         heap = [(4, 1), (2, 0)]
         self.assertEqual(put_in(NEWEST, heap, (3, 1)), ((2, 0), (3, 1), (4, 1)))
+        self.assertEqual(put_in(NEWEST, [(1, 0)], (2, 1)), ((1, 0), (2, 1)))
         self.assertEqual(put_in(machine=NEWEST, heap=heap, slip=(9, 1)), ((2, 0), (4, 1), (9, 1)))
         self.assertEqual(heap, [(4, 1), (2, 0)])
 
@@ -75,6 +76,7 @@ class PutInTest(unittest.TestCase):
             self.assertEqual(at_of(self, InvalidSlip, put_in, NEWEST, [(1, 0)], slip), 0)
         self.assertEqual(at_of(self, InvalidSlip, put_in, NEWEST, [(1, 0)], (1, 2)), 0)
         self.assertEqual(at_of(self, Refused, put_in, NEWEST, [(0, 0), (1, 0)], (1, 0)), 0)
+        self.assertEqual(at_of(self, Refused, put_in, NEWEST, [(9, 0), (5, 0)], (5, 1)), 0)
         self.assertEqual(at_of(self, Refused, put_in, NEWEST, [(0, 0), (1, 0)], (1, 1)), 0)
 
 

@@ -95,6 +95,18 @@ class LeastNoteTest(unittest.TestCase):
                 self.assertEqual(least_note(machine), self.first(machine))
         self.assertGreater(len(seen), 5)
 
+    def test_fewer_numbers_go_ahead_of_lesser_ones(self):
+        # In each of these the first tuple that is a note at all needs a number more.
+        for commands, steps in (
+            (3, ((0, 2, 0), (0, 1, 1), (2, 2, 2), (3, 2, 3), (4, 0, 3))),
+            (2, ((0, 0), (2, 1), (2, 2), (3, 1), (1, 2))),
+            (2, ((3, 0), (1, 4), (1, 2), (3, 1), (4, 4))),
+            (2, ((0, 0), (1, 1), (3, 1), (1, 3), (4, 3), (5, 5))),
+        ):
+            machine = Machine(commands, steps)
+            self.assertEqual(least_note(machine), self.first(machine))
+            self.assertEqual(len(set(least_note(machine))), 2)
+
     def test_one_number_exactly_if_not_blind(self):
         for machine in machines():
             self.assertEqual(len(set(least_note(machine))) == 1, not is_blind(machine))
