@@ -1,7 +1,7 @@
 """Changes that may come late, and the faults of those that may not."""
 
 from lateslips.errors import Blind, Refused
-from lateslips.machines import effect, effects, is_row, is_state, is_state_tuple
+from lateslips.machines import effect, effects, is_command, is_row, is_state, is_state_tuple
 from lateslips.pairs import MET, pair_numbers, pair_steps, pairs_of
 from lateslips.values import is_ascending
 
@@ -94,6 +94,14 @@ def is_fault(machine, change, value):
         return False
     ends = effect(machine, row)
     return s < t and ends[s] == ends[t] and ends[change[s]] != ends[change[t]]
+
+
+def is_blind_fault(machine, value):
+    """Whether any value is some (s, t, x, w): a fault (s, t, w) of the command x."""
+    if not isinstance(value, tuple) or len(value) != 4:
+        return False
+    s, t, command, row = value
+    return is_command(machine, command) and is_fault(machine, effects(machine)[command], (s, t, row))
 
 
 def guard(machine, change):

@@ -2,7 +2,7 @@
 
 from lateslips.errors import InvalidSlip, Refused
 from lateslips.machines import end_state, is_command, is_state
-from lateslips.values import is_number, is_sequence
+from lateslips.values import is_ascending, is_number, is_sequence
 
 
 def is_slip(machine, value):
@@ -29,6 +29,24 @@ def checked_heap(machine, value):
             raise InvalidSlip(index)
         times.add(entry[0])
     return tuple(sorted(value))
+
+
+def is_heap(machine, value):
+    """Whether any value is a heap: a list is none."""
+    if not isinstance(value, tuple) or not all([is_slip(machine, entry) for entry in value]):
+        return False
+    return is_ascending([time for time, _ in value])
+
+
+def times_meet(one, other):
+    """Whether some time stands in both of two heaps."""
+    times = {time for time, _ in one}
+    return any([time in times for time, _ in other])
+
+
+def together(one, other):
+    """The slips of two heaps, each once; unlike slips have unlike times."""
+    return tuple(sorted(set(one + other)))
 
 
 def row_of(machine, heap):

@@ -157,3 +157,157 @@ WIDE = Machine(5, [
     (0, 0, 0, 0, 7), (1, 1, 1, 2, 1), (2, 2, 2, 2, 2), (3, 3, 2, 3, 3), (4, 4, 3, 4, 4),
     (5, 5, 5, 1, 5), (8, 6, 6, 6, 6), (7, 7, 7, 7, 2), (2, 8, 8, 8, 8), (9, 2, 9, 9, 9),
 ])
+
+
+def is_free(machine, command, row):
+    """Whether the command may change places with each one ahead of the row."""
+    return all(
+        lead(machine.steps, state, (command, x) + tuple(row)) == lead(machine.steps, state, (x, command) + tuple(row))
+        for state in range(machine.states) for x in range(machine.commands)
+    )
+
+
+def is_idle(machine, command, row):
+    return ends(machine, (command,) + tuple(row)) == ends(machine, row)
+
+
+def is_harmless(machine, command, row):
+    twice = ends(machine, (command, command) + tuple(row))
+    return is_free(machine, command, row) and twice == ends(machine, (command,) + tuple(row))
+
+
+def held(machine, heap, rule):
+    """The slips of a heap of which the rule is false, asked with the row of the newer ones."""
+    heap = sorted(heap)
+    newer = [tuple(command for _, command in heap[place + 1:]) for place in range(len(heap))]
+    return tuple(slip for slip, row in zip(heap, newer) if not rule(machine, slip[1], row))
+
+
+def tray(machine, heap):
+    return held(machine, heap, is_free)
+
+
+def row_held(machine, row, rule):
+    return tuple(command for _, command in held(machine, list(enumerate(row)), rule))
+
+
+def heaps(commands, times):
+    """All heaps whose slips have some of these times."""
+    for size in range(len(times) + 1):
+        for some in itertools.combinations(times, size):
+            for row in itertools.product(range(commands), repeat=size):
+                yield tuple(zip(some, row))
+
+
+def truth(machine, state, heap):
+    return lead(machine.steps, state, [command for _, command in sorted(heap)])
+
+
+def filled_end(machine, state, heap, filling):
+    """Where the filled heap leads: slip by slip, each behind the rows of its time and of lesser ones."""
+    waiting = list(filling)
+    for time, command in sorted(heap):
+        while waiting and waiting[0][0] <= time:
+            state = lead(machine.steps, state, waiting.pop(0)[1])
+        state = machine.steps[state][command]
+    for _, row in waiting:
+        state = lead(machine.steps, state, row)
+    return state
+
+
+def stays(machine):
+    """The pairs (row, command) such that the command, followed by the row, has its kernel: a row for each effect."""
+    for row in effects(machine).values():
+        for command in range(machine.commands):
+            if kernel(machine, (command,) + row) == kernel(machine, row):
+                yield row, command
+
+
+def kind(machine):
+    if is_blind(machine):
+        return "blind"
+    return "tray" if all(is_free(machine, command, row) for row, command in stays(machine)) else "heavy"
+
+
+def kind_again(machine):
+    if is_blind(machine):
+        return "blind"
+    return "lasting" if all(is_idle(machine, command, row) for row, command in stays(machine)) else "counting"
+
+
+def some_of_kind(many, seed, told, rule=kind, commands=(2, 3), states=(2, 4)):
+    """So many machines that are not blind and of which the rule tells this kind, the same ones each time."""
+    found = []
+    turn = 0
+    while len(found) < many:
+        turn += 1
+        wider = some_sighted(many, repr((seed, turn)), commands, states)
+        found.extend(machine for machine in wider if rule(machine) == told)
+    return found[:many]
+
+
+def is_below(value, limit):
+    return type(value) is int and 0 <= value < limit
+
+
+def is_row(machine, value):
+    return type(value) is tuple and all(is_below(entry, machine.commands) for entry in value)
+
+
+def is_division(machine, value):
+    if type(value) is not tuple or len(value) != machine.states:
+        return False
+    if not all(is_below(entry, machine.states) for entry in value):
+        return False
+    return all(least <= state and value[least] == least for state, least in enumerate(value))
+
+
+def ahead_of(machine, value, command):
+    return division([value[entry[command]] for entry in machine.steps])
+
+
+def is_cover(machine, value):
+    if type(value) is not tuple or not all(is_division(machine, entry) for entry in value):
+        return False
+    if list(value) != sorted(set(value)) or tuple(range(machine.states)) not in value:
+        return False
+    return all(
+        ahead_of(machine, entry, command) in value and within(entry, ahead_of(machine, entry, command))
+        for entry in value for command in range(machine.commands)
+    )
+
+
+def cover_stays(machine, value):
+    """The pairs (division, command) of a cover for which the division ahead is the same."""
+    for entry in value:
+        for command in range(machine.commands):
+            if ahead_of(machine, entry, command) == entry:
+                yield entry, command
+
+
+def changed(value):
+    """Values with one place of this one changed, lists and what is no number among them."""
+    if isinstance(value, tuple):
+        yield list(value)
+        yield value + value[-1:] if value else (0,)
+        yield value[:-1]
+        yield value[1:]
+        yield value[::-1]
+        for place, entry in enumerate(value):
+            for other in changed(entry):
+                yield value[:place] + (other,) + value[place + 1:]
+    elif isinstance(value, str):
+        yield from ("blind", "heavy", "tray", "counting", "lasting", "", None, 0, value + " ", value.upper(), [value])
+    else:
+        yield from (value + 1, value - 1, -1, 0, 1, True, False, None, float(value), str(value), (value,))
+
+
+def all_divisions(states):
+    """The divisions of so many states into classes."""
+    return sorted({division(labels) for labels in itertools.product(range(states), repeat=states)})
+
+
+def some_of(values):
+    """All tuples of some of these, in their order."""
+    for size in range(len(values) + 1):
+        yield from itertools.combinations(values, size)

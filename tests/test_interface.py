@@ -41,7 +41,29 @@ INTERFACE = {
         "rows_with_kernel(machine, length, kernel, *, modulus=None)",
         "meeting_rows(machine, length, one, other, *, modulus=None)", "nth_row(machine, length, kernel, number)",
     ),
+    "traycounts": (
+        "rows_with_tray(machine, length, row, *, modulus=None)", "tray_sizes(machine, length, *, modulus=None)",
+    ),
     "frees": ("is_free(machine, command, row)", "clash(machine, command, row)", "free_commands(machine, row)"),
+    "trays": (
+        "tray(machine, heap)", "thrown(machine, heap)", "holds_tray(machine, heap, kept)",
+        "thrown_by(machine, heap, slip)", "tray_of_both(machine, one, other)",
+    ),
+    "late": (
+        "ends(machine, now, kept, late)", "redone(machine, now, kept, late, *, by=0)",
+        "receive(machine, now, kept, slip, *, by=0)", "receive_all(machine, state, slips, *, by=0)",
+    ),
+    "verdicts": (
+        "kind_of(machine)", "is_load(machine, value)", "verdict(machine)", "is_verdict(machine, value)",
+    ),
+    "weeks": (
+        "period(machine, load)", "week_heap(machine, load, choices)", "parting_slip(machine, load, choices, others)",
+    ),
+    "parted": (
+        "filled_end(machine, state, heap, filling)", "parting(machine, state, one, other)",
+        "notes_needed(machine, state, heaps)",
+    ),
+    "stuck": ("is_stuck(machine, row)", "longest_stuck(machine)", "block_heap(machine, row, places, width)"),
 }
 
 CLASSES = {
