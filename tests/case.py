@@ -54,3 +54,12 @@ class Case(unittest.TestCase):
     def by_name_alone(self, call, *arguments):
         with self.assertRaises(TypeError):
             call(*arguments)
+
+
+# Values that are no standings of NEWEST.
+NO_STANDINGS = (
+    None, 0, "01", (), (0,), [0, ()], (0, []), (0, (), ()), (0, None), (None, ()), (2, ()), (-1, ()), (True, ()),
+    (False, ()), (0.0, ()), ((0,), ()), (0, ((4, 1),)), (1, ((4, 1), (5, 0))), (1, ((5, 1), (4, 1))), (1, ((4, 1), (4, 1))),
+    (0, ((4, 1), (4, 0))), (1, ([4, 1],)), (1, [(4, 1)]), (1, ((4, True),)), (1, ((True, 1),)), (1, ((4, 2),)),
+    (1, ((4, 1), None)), (1, ((4, 1, 0),)), (1, (4, 1)), (0, {}),
+)

@@ -64,6 +64,23 @@ INTERFACE = {
         "notes_needed(machine, state, heaps)",
     ),
     "stuck": ("is_stuck(machine, row)", "longest_stuck(machine)", "block_heap(machine, row, places, width)"),
+    "harmless": ("is_harmless(machine, command, row)", "firm_tray(machine, heap)"),
+    "stories": (
+        "heap_of_story(machine, story)", "receive_again(machine, now, kept, slip)",
+        "tell_story(machine, state, story)",
+    ),
+    "lasting": (
+        "again_verdict(machine)", "is_again_verdict(machine, value)", "longest_firm(machine)", "linked(machine)",
+    ),
+    "lots": ("lot_heap(machine, counter, times, behind)", "parting_again(machine, state, one, other)"),
+    "copies": (
+        "is_standing(machine, value)", "taken(machine, base, standing, slip)", "taken_all(machine, base, slips)",
+    ),
+    "merging": (
+        "is_road(machine, base, standing, value)", "road(machine, base, standing)",
+        "merge(machine, base, standings, *, roads=None)",
+    ),
+    "gossip": ("is_idle(machine, command, row)", "gist(machine, heap)", "share(machine, one, other)"),
 }
 
 CLASSES = {
