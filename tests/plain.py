@@ -311,3 +311,20 @@ def some_of(values):
     """All tuples of some of these, in their order."""
     for size in range(len(values) + 1):
         yield from itertools.combinations(values, size)
+
+
+def are_parted(machine, state, one, other, again=False):
+    """Whether some filling (and, if asked, some slips that come again) lead the state to unlike ones, by all pairs."""
+    pairs = {(state, state)}
+    first, second = dict(one), dict(other)
+    for time in sorted(set(first) | set(second)):
+        while True:
+            wider = pairs | {(machine.steps[p][x], machine.steps[q][x]) for p, q in pairs for x in range(machine.commands)}
+            if wider == pairs:
+                break
+            pairs = wider
+        ways = [([first[time]] if time in first else [], [second[time]] if time in second else [])]
+        if again and (time in first) != (time in second):
+            ways.append((ways[0][0] + ways[0][1],) * 2)
+        pairs = {(lead(machine.steps, p, u), lead(machine.steps, q, v)) for p, q in pairs for u, v in ways}
+    return any(p != q for p, q in pairs)

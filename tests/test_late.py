@@ -66,6 +66,12 @@ class EndsTest(Case):
         self.assertEqual(ends(NEWEST, 0, [(4, 1)], ()), ())
         self.assertEqual(ends(DOWN, 0, [(4, 0)], [(5, 1)]), (0,))
 
+    def test_ends_are_ascending(self):
+        # Three ways back end in 8, 0 and 5.
+        steps = [(5, 8), (5, 9), (2, 2), (3, 3), (4, 4), (5, 5), (6, 6), (7, 7), (8, 8), (0, 9)]
+        self.assertEqual(ends(Machine(2, steps), 5, [(4, 0)], [(3, 1)]), (0, 5, 8))
+        self.assertEqual([redone(Machine(2, steps), 5, [(4, 0)], [(3, 1)], by=by) for by in range(4)], [8, 0, 5, 8])
+
     def test_which_error_goes_first(self):
         for call in (ends, redone):
             for now in NO_STATES:
@@ -139,6 +145,8 @@ class ReceiveTest(Case):
                     longer = plain.tray(machine, kept + ((time, command),))
                     if not found:
                         self.fails(Refused, 2, receive, machine, now, kept, (time, command))
+                    else:
+                        self.assertEqual(receive(machine, now, kept, (time, command)), (found[0], longer))
                     for by in range(len(found) + 1 if found else 0):
                         told = receive(machine, now, list(kept[::-1]), (time, command), by=by)
                         self.assertEqual(told, (found[by % len(found)], longer))

@@ -174,6 +174,28 @@ class PartingAgainTest(Case):
                         if found is not None:
                             self.check(machine, state, *pair, found)
 
+    def test_wider_heaps(self):
+        chance = random.Random("wider again")
+        wider = list(plain.some_machines(100, "wider again", commands=(2, 4), states=(2, 6)))
+        wider += plain.some_of_kind(40, "wider again", "lasting", plain.kind_again, states=(3, 6))
+        nones = 0
+        for machine in wider:
+            one, other = [
+                tuple((time, chance.randrange(machine.commands)) for time in range(7) if chance.randrange(2))
+                for _ in range(2)
+            ]
+            found = parting_again(machine, 0, one, other)
+            self.assertEqual(found is not None, plain.are_parted(machine, 0, one, other, again=True))
+            if found is None:
+                nones += 1
+            else:
+                self.check(machine, 0, one, other, found)
+        self.assertGreater(nones, 5)
+
+    def test_a_row_of_three_commands_is_needed(self):
+        machine = Machine(2, [(0, 1), (1, 2), (2, 3), (4, 3), (4, 4)])
+        self.assertEqual(parting_again(machine, 0, [(6, 0)], ()), (((6, (1, 1, 1)),), ()))
+
     def test_equal_heaps(self):
         for machine in machines():
             for heap in plain.heaps(machine.commands, (0, 2, 5)):

@@ -99,12 +99,20 @@ class PartingTest(Case):
 
     def test_wider_heaps(self):
         chance = random.Random("wider")
-        for machine in plain.some_machines(120, "wider", commands=(2, 4), states=(2, 6)):
+        wider = list(plain.some_machines(150, "wider", commands=(2, 4), states=(2, 6)))
+        for machine in wider + plain.some_of_kind(60, "wider", "tray", states=(4, 6)):
             one, other = [
-                [(time, chance.randrange(machine.commands)) for time in range(12) if chance.randrange(2)]
+                [(time, chance.randrange(machine.commands)) for time in range(9) if chance.randrange(2)]
                 for _ in range(2)
             ]
-            self.check(machine, 0, one, other, parting(machine, 0, one, other))
+            found = parting(machine, 0, one, other)
+            self.assertEqual(found is not None, plain.are_parted(machine, 0, one, other))
+            self.check(machine, 0, one, other, found)
+
+    def test_a_row_of_three_commands_is_needed(self):
+        machine = Machine(2, [(0, 1), (1, 2), (2, 3), (4, 3), (4, 4)])
+        self.assertEqual(parting(machine, 0, [(6, 0)], ()), ((6, (1, 1, 1)),))
+        self.assertEqual(parting(machine, 0, (), [(6, 0)]), ((6, (1, 1, 1)),))
 
     def test_named_ones(self):
         self.assertIsNone(parting(NEWEST, 0, [(3, 1), (5, 1)], [(5, 1), (2, 0)]))
