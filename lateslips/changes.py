@@ -1,8 +1,9 @@
 """Changes that may come late, and the faults of those that may not."""
 
+from lateslips.apart import first_parted
 from lateslips.errors import Blind, Refused
-from lateslips.machines import effect, effects, is_command, is_row, is_state, is_state_tuple
-from lateslips.pairs import MET, pair_numbers, pair_steps, pairs_of
+from lateslips.machines import effect, effects, is_command, is_row, is_state, is_state_tuple, resting
+from lateslips.pairs import pairs_of
 from lateslips.values import is_ascending
 
 
@@ -14,16 +15,22 @@ def _checked_change(machine, value):
 
 def fault(machine, change):
     """None, or some fault of the change with a shortest row."""
-    found = _shortest_fault(machine, [_checked_change(machine, change)])
+    start = resting(machine)
+    found = first_parted(machine, [(start, _checked_change(machine, change))], start)
     if found is None:
         return None
-    s, t, _, row = found
+    _, s, t, row = found
     return (s, t, row)
 
 
 def blind_fault(machine):
     """None, or some (s, t, x, w): a fault (s, t, w) of the command x, with a shortest row."""
-    return _shortest_fault(machine, effects(machine))
+    start = resting(machine)
+    found = first_parted(machine, [(start, change) for change in effects(machine)], start)
+    if found is None:
+        return None
+    command, s, t, row = found
+    return (s, t, command, row)
 
 
 def is_blind(machine):
@@ -39,49 +46,6 @@ def refuse_blind(machine):
 def late_commands(machine):
     """The commands whose changes may come late."""
     return tuple([command for command, change in enumerate(effects(machine)) if fault(machine, change) is None])
-
-
-def _shortest_fault(machine, changes):
-    """None, or (s, t, x, w): a fault (s, t, w) of the change with the index x, w as short as any."""
-    steps = pair_steps(machine)
-    came = _starts(machine, changes)
-    level = list(came)
-    while level:
-        following = []
-        for node in level:
-            for command, first in enumerate(steps[node[0]]):
-                second = steps[node[1]][command]
-                if first == MET and second != MET:
-                    return _fault_told(machine, came, node, command)
-                # Two pairs that are one meet at once: nothing comes of them.
-                if second not in (MET, first) and (first, second) not in came:
-                    came[(first, second)] = (command, node)
-                    following.append((first, second))
-        level = following
-    return None
-
-
-def _starts(machine, changes):
-    """Each pair of states beside the pair to which a change leads it, with the index of the change."""
-    numbers = pair_numbers(machine)
-    starts = {}
-    for index, change in enumerate(changes):
-        for number, (s, t) in enumerate(pairs_of(machine)):
-            second = numbers[change[s]][change[t]]
-            if second not in (MET, number):
-                starts.setdefault((number, second), (index, None))
-    return starts
-
-
-def _fault_told(machine, came, node, last):
-    row = [last]
-    command, ahead = came[node]
-    while ahead is not None:
-        row.append(command)
-        node = ahead
-        command, ahead = came[node]
-    s, t = pairs_of(machine)[node[0]]
-    return (s, t, command, tuple(row[::-1]))
 
 
 def is_fault(machine, change, value):

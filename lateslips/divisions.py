@@ -4,6 +4,25 @@ What holds over the kernel of a row holds ahead of the row: there nothing matter
 but which states the row leads to the same state.
 """
 
+from lateslips.machines import Machine
+
+
+def least_states(division):
+    """The least state of each class."""
+    return [state for state, least in enumerate(division) if state == least]
+
+
+def machine_of_classes(machine, division):
+    """The machine whose states are the classes, numbered in the order of their least states.
+
+    Each command leads all states of one class into one class.
+    """
+    leasts = least_states(division)
+    steps = []
+    for state in leasts:
+        steps.append([leasts.index(division[end]) for end in machine.steps[state]])
+    return Machine(machine.commands, steps)
+
 
 def clash_over(machine, command, classes):
     """The first (state, x) from which the command and x lead into unlike classes in the two orders, or None.

@@ -1,8 +1,9 @@
 """A few commands of a row that have the kernel of the whole row."""
 
 from lateslips.changes import refuse_blind
+from lateslips.divisions import least_states, machine_of_classes
 from lateslips.kernels import kernel, kernel_ahead
-from lateslips.machines import Machine, checked_row, effects, resting
+from lateslips.machines import checked_row, effects, resting
 from lateslips.values import is_ascending, is_tuple_below
 
 
@@ -90,23 +91,14 @@ def greatest_of_sighted(machine):
 
 def fewest_classes(machine):
     """The number of classes of the greatest kernel."""
-    return len(_least_states(greatest_kernel(machine)))
+    return len(least_states(greatest_kernel(machine)))
 
 
 def most_kept(machine):
     """The number of states less that of the classes, for a machine that is known not to be blind."""
-    return machine.states - len(_least_states(greatest_of_sighted(machine)))
-
-
-def _least_states(division):
-    return [state for state, least in enumerate(division) if state == least]
+    return machine.states - len(least_states(greatest_of_sighted(machine)))
 
 
 def settled(machine):
     """The machine whose states are the classes of the greatest kernel."""
-    greatest = greatest_kernel(machine)
-    leasts = _least_states(greatest)
-    steps = []
-    for state in leasts:
-        steps.append([leasts.index(greatest[end]) for end in machine.steps[state]])
-    return Machine(machine.commands, steps)
+    return machine_of_classes(machine, greatest_kernel(machine))

@@ -328,3 +328,66 @@ def are_parted(machine, state, one, other, again=False):
             ways.append((ways[0][0] + ways[0][1],) * 2)
         pairs = {(lead(machine.steps, p, u), lead(machine.steps, q, v)) for p, q in pairs for u, v in ways}
     return any(p != q for p, q in pairs)
+
+
+def shortest_rows(machine):
+    """For each effect the first of the shortest rows that have it, the shorter ones first, then ascending."""
+    return sorted(effects(machine).values(), key=lambda row: (len(row), row))
+
+
+def apart(machine, row, other, since):
+    """The pairs (s, t), s less than t, that `row` and `since` bring together, `other` and `since` do not."""
+    done, wanted = ends(machine, row + since), ends(machine, other + since)
+    pairs = itertools.combinations(range(machine.states), 2)
+    return [(s, t) for s, t in pairs if done[s] == done[t] and wanted[s] != wanted[t]]
+
+
+def may_become(machine, row, other):
+    return not any(apart(machine, row, other, since) for since in effects(machine).values())
+
+
+def unlike_commands(machine):
+    return list(itertools.permutations(range(machine.commands), 2))
+
+
+def grade(machine):
+    each = range(machine.commands)
+    if all(may_become(machine, (a,), ()) for a in each):
+        return 4
+    if all(may_become(machine, (a,), (b,)) for a, b in unlike_commands(machine)):
+        return 3
+    if all(may_become(machine, (a, b), (b, a)) for a, b in unlike_commands(machine)):
+        return 2
+    return 1 if all(may_become(machine, (), (a,)) for a in each) else 0
+
+
+def faces(machine):
+    """All faces, ascending."""
+    return [value for value in all_divisions(machine.states) if is_face(machine, value)]
+
+
+def is_face(machine, value):
+    if not is_division(machine, value):
+        return False
+    return all(within(value, ahead_of(machine, value, command)) for command in range(machine.commands))
+
+
+def classes_machine(machine, face):
+    leasts = sorted(set(face))
+    return Machine(machine.commands, [[leasts.index(face[end]) for end in machine.steps[least]] for least in leasts])
+
+
+def fulfils(machine, wish):
+    if wish == "late":
+        return not is_blind(machine)
+    if wish == "tray":
+        return kind(machine) == "tray"
+    if wish == "free":
+        return all(is_free(machine, command, ()) for command in range(machine.commands))
+    return grade(machine) >= {"swapped": 2, "exchanged": 3, "struck": 4}[wish]
+
+
+def finest_face(machine, wish):
+    """The first of the fulfilling faces that lies within all of them."""
+    found = [face for face in faces(machine) if fulfils(classes_machine(machine, face), wish)]
+    return [face for face in found if all(within(face, other) for other in found)][0]

@@ -81,6 +81,26 @@ INTERFACE = {
         "merge(machine, base, standings, *, roads=None)",
     ),
     "gossip": ("is_idle(machine, command, row)", "gist(machine, heap)", "share(machine, one, other)"),
+    "unmerged": ("merge_fault(machine, state)", "is_merge_fault(machine, state, value)"),
+    "mending": (
+        "mended_states(machine, now, row, other, *, since=())", "can_be_mended(machine, row, other, *, since=())",
+        "may_become(machine, row, other)", "mending_fault(machine, row, other)",
+        "is_mending_fault(machine, row, other, value)",
+    ),
+    "corrections": (
+        "exchange(machine, heap, slip)", "swap(machine, heap, time)", "strike(machine, heap, time)",
+        "right_exchanges(machine)", "right_swaps(machine)", "right_strikes(machine)",
+    ),
+    "grades": (
+        "grade(machine)", "length_ladder(machine)", "is_length_ladder(machine, value)", "exchange_fault(machine)",
+        "swap_fault(machine)",
+    ),
+    "faces": (
+        "is_face(machine, value)", "face_machine(machine, face)", "closed_face(machine, pairs)",
+        "common_face(machine, one, other)",
+    ),
+    "wishes": ("fulfils(machine, wish='late')", "finest_face(machine, wish='late')"),
+    "reasons": ("reasons(machine, wish, one, other)", "is_reasons(machine, wish, one, other, value)"),
 }
 
 CLASSES = {

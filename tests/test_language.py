@@ -20,6 +20,7 @@ BARRED = set(
     "register mro elements open input law version_info with_traceback add_note type typing typing_extensions enum "
     "Enum IntEnum StrEnum Flag IntFlag Generic Protocol ABC ABCMeta namedtuple NamedTuple TypedDict".split()
 )
+CHANGING = set("append clear extend insert pop remove reverse setdefault update add discard".split())
 METHODS_OF_CLASSES = ("__init__", "__eq__", "__len__")
 NODES = (
     ast.Global, ast.AsyncFunctionDef, ast.Await, ast.Try, ast.With, ast.GeneratorExp, ast.AnnAssign, ast.NamedExpr,
@@ -81,6 +82,14 @@ class LanguageTest(unittest.TestCase):
                 if isinstance(node, ast.Call) and isinstance(node.func, ast.Attribute):
                     self.assertIn(node.func.attr, METHODS, (name, node.lineno))
 
+    def test_loops_leave_alone_what_they_go_over(self):
+        for name, _, tree in self.each():
+            for node in ast.walk(tree):
+                if isinstance(node, ast.For):
+                    over = {inner.id for inner in ast.walk(node.iter) if isinstance(inner, ast.Name)}
+                    for inner in ast.walk(ast.Module(node.body, [])):
+                        self.assertNotIn(changed_name(inner), over, (name, node.lineno))
+
     def test_imports_name_the_very_file(self):
         links = {}
         for name, _, tree in self.each():
@@ -116,6 +125,17 @@ class LanguageTest(unittest.TestCase):
                 if isinstance(node, ast.ImportFrom):
                     for alias in node.names:
                         self.assertGreater(len(re.findall(rf"\b{alias.name}\b", text)), 1, (name, alias.name))
+
+
+def changed_name(node):
+    """The name of what a call or an assignment of an item changes, None for what does neither."""
+    if isinstance(node, ast.Call) and isinstance(node.func, ast.Attribute) and node.func.attr in CHANGING:
+        node = node.func
+    elif not (isinstance(node, ast.Subscript) and not isinstance(node.ctx, ast.Load)):
+        return None
+    while isinstance(node, (ast.Attribute, ast.Subscript)):
+        node = node.value
+    return node.id if isinstance(node, ast.Name) else None
 
 
 def imported_file(module):
