@@ -2,8 +2,9 @@
 
 from lateslips.errors import InvalidText
 from lateslips.machines import Machine
+from lateslips.values import number_in
 
-FIGURES = "0123456789"
+MOST_FIGURES = 2
 
 
 def machine_text(machine):
@@ -49,9 +50,7 @@ def _entry(line, commands, states, at):
 
 def _number(word, at):
     """The number that stands in the line `at` as this word."""
-    if len(word) not in (1, 2) or not all([letter in FIGURES for letter in word]):
+    number = number_in(word, MOST_FIGURES)
+    if number is None:
         raise InvalidText(at)
-    # A zero ahead of another figure would give a second text of the same machine.
-    if len(word) == 2 and word[0] == "0":
-        raise InvalidText(at)
-    return int(word)
+    return number

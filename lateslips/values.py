@@ -1,5 +1,7 @@
 """What any value is looked through for: numbers, sequences, tuples of numbers."""
 
+FIGURES = "0123456789"
+
 
 def is_integer(value):
     # Python holds True and False to be integers, this package does not.
@@ -30,3 +32,13 @@ def is_tuple_below(value, limit):
 def is_ascending(values):
     """Whether each of these is less than the next one."""
     return all([one < other for one, other in zip(values, values[1:])])
+
+
+def number_in(word, most):
+    """The number that stands in a word, in at most so many figures, None if none does."""
+    if len(word) == 0 or len(word) > most or not all([letter in FIGURES for letter in word]):
+        return None
+    # A zero ahead of another figure would give a second word for the same number.
+    if len(word) > 1 and word[0] == "0":
+        return None
+    return int(word)

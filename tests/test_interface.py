@@ -101,6 +101,17 @@ INTERFACE = {
     ),
     "wishes": ("fulfils(machine, wish='late')", "finest_face(machine, wish='late')"),
     "reasons": ("reasons(machine, wish, one, other)", "is_reasons(machine, wish, one, other, value)"),
+    "labels": ("label_fault(labels)", "is_label_fault(labels, value)", "can_show(labels, wish='late')"),
+    "moments": (
+        "moment_ends(machine, now, kept, command)", "possible_ends(machine, now, kept, command, *, first=0, last=None)",
+        "placed_end(machine, now, kept, commands, placing)", "ends_of_all(machine, now, kept, commands)",
+        "placing_to(machine, now, kept, commands, end)",
+    ),
+    "bynumber": (
+        "ends_by_number(machine, now, many, command)", "number_fault(machine)", "is_number_fault(machine, value)",
+    ),
+    "bycounts": ("table(machine, row)", "tables(machine)", "order_fault(machine)", "is_order_fault(machine, value)"),
+    "sheets": ("sheet_holds(value)", "sheet(name, question)", "wrong_sheets(values)"),
 }
 
 CLASSES = {
@@ -109,6 +120,22 @@ CLASSES = {
         "Heavy", "Refused", "InvalidCommand",
     ),
     "machines": ("Machine",),
+    "labels": ("Labels",),
+    "store": ("Store",),
+    "desk": ("Desk",),
+}
+
+METHODS = {
+    "machines": ("Machine", "(commands, steps)", ("__eq__(self, other)",)),
+    "labels": ("Labels", "(machine, numbers)", ("__call__(self, state)", "__eq__(self, other)")),
+    "store": (
+        "Store", "(machine, state)",
+        (
+            "__len__(self)", "now(self)", "kept(self)", "count(self)", "come(self, slip)", "come_all(self, slips)",
+            "meet(self, other)", "would_be(self, slip)", "matters(self, slip)", "undo(self)", "within(self, work)",
+        ),
+    ),
+    "desk": ("Desk", "()", ("say(self, command)",)),
 }
 
 
@@ -128,10 +155,18 @@ class InterfaceTest(unittest.TestCase):
                 self.assertTrue(inspect.isclass(getattr(module, word)))
                 self.assertEqual(getattr(module, word).__module__, module.__name__)
 
-    def test_machine(self):
-        from lateslips.machines import Machine
+    def test_methods_stand_in_their_class(self):
+        for name, (word, signature, listed) in METHODS.items():
+            found = getattr(importlib.import_module("lateslips." + name), word)
+            self.assertEqual(str(inspect.signature(found)), signature)
+            for line in listed:
+                method = vars(found)[line.partition("(")[0]]
+                self.assertEqual(method.__name__ + str(inspect.signature(method)), line)
 
-        self.assertEqual(str(inspect.signature(Machine)), "(commands, steps)")
+    def test_wishes(self):
+        from lateslips.wishes import WISHES
+
+        self.assertEqual(WISHES, ("late", "tray", "free", "swapped", "exchanged", "struck"))
 
 
 if __name__ == "__main__":

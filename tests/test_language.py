@@ -21,10 +21,10 @@ BARRED = set(
     "Enum IntEnum StrEnum Flag IntFlag Generic Protocol ABC ABCMeta namedtuple NamedTuple TypedDict".split()
 )
 CHANGING = set("append clear extend insert pop remove reverse setdefault update add discard".split())
-METHODS_OF_CLASSES = ("__init__", "__eq__", "__len__")
+METHODS_OF_CLASSES = ("__init__", "__eq__", "__len__", "__call__")
 NODES = (
-    ast.Global, ast.AsyncFunctionDef, ast.Await, ast.Try, ast.With, ast.GeneratorExp, ast.AnnAssign, ast.NamedExpr,
-    ast.Div, ast.Import,
+    ast.Global, ast.AsyncFunctionDef, ast.Await, ast.With, ast.GeneratorExp, ast.AnnAssign, ast.NamedExpr, ast.Div,
+    ast.Import, ast.Lambda, ast.Delete, ast.Yield, ast.YieldFrom,
 )
 
 
@@ -75,12 +75,24 @@ class LanguageTest(unittest.TestCase):
                     self.assertTrue(re.fullmatch(r"_|_?[A-Za-z][A-Za-z0-9_]*", word), (name, word))
 
     def test_calls(self):
+        own = set()
+        for _, _, tree in self.each():
+            classes = [node for node in tree.body if isinstance(node, ast.ClassDef)]
+            own.update(node.name for each in classes for node in each.body if isinstance(node, ast.FunctionDef))
         for name, _, tree in self.each():
             for node in ast.walk(tree):
                 if isinstance(node, ast.Name) and hasattr(builtins, node.id):
                     self.assertIn(node.id, CALLED, name)
                 if isinstance(node, ast.Call) and isinstance(node.func, ast.Attribute):
-                    self.assertIn(node.func.attr, METHODS, (name, node.lineno))
+                    self.assertIn(node.func.attr, METHODS | own, (name, node.lineno))
+
+    def test_tries(self):
+        errors = defined_names("errors.py")
+        for name, _, tree in self.each():
+            for node in ast.walk(tree):
+                if isinstance(node, ast.Try):
+                    self.assertTrue(all(handler.type.id in errors for handler in node.handlers), name)
+                    self.assertTrue(all(is_plain_assignment(row) for row in node.finalbody), name)
 
     def test_loops_leave_alone_what_they_go_over(self):
         for name, _, tree in self.each():
@@ -125,6 +137,12 @@ class LanguageTest(unittest.TestCase):
                 if isinstance(node, ast.ImportFrom):
                     for alias in node.names:
                         self.assertGreater(len(re.findall(rf"\b{alias.name}\b", text)), 1, (name, alias.name))
+
+
+def is_plain_assignment(node):
+    """Whether only names and attributes are assigned to such, as is allowed at the end of a `try`."""
+    plain = (ast.Assign, ast.Name, ast.Attribute, ast.Tuple, ast.Load, ast.Store)
+    return isinstance(node, ast.Assign) and all(isinstance(inner, plain) for inner in ast.walk(node))
 
 
 def changed_name(node):
