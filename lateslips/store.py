@@ -2,7 +2,7 @@
 
 from lateslips.changes import refuse_blind
 from lateslips.errors import Refused
-from lateslips.heaps import checked_heap, checked_slip, times_meet
+from lateslips.heaps import checked_heap, times_meet
 from lateslips.late import receive, redone
 from lateslips.machines import is_state
 from lateslips.merging import merge
@@ -38,7 +38,8 @@ class Store:
 
     def come(self, slip):
         """Receives a slip."""
-        now, kept = _received(self.machine, self.now(), self.kept(), checked_slip(self.machine, slip))
+        # What is no slip, and a time that is kept, is refused there, as it should be here.
+        now, kept = receive(self.machine, self.now(), self.kept(), slip)
         self._do(now, kept, 1)
 
     def come_all(self, slips):
@@ -46,7 +47,7 @@ class Store:
         checked_heap(self.machine, slips)
         now, kept = self.now(), self.kept()
         for slip in slips:
-            now, kept = _received(self.machine, now, kept, slip)
+            now, kept = receive(self.machine, now, kept, slip)
         self._do(now, kept, len(slips))
 
     def meet(self, other):
@@ -66,8 +67,6 @@ class Store:
 
     def would_be(self, slip):
         """What would stand now if the slip came."""
-        slip = checked_slip(self.machine, slip)
-        _refuse_known_time(self.kept(), slip)
         return redone(self.machine, self.now(), self.kept(), (slip,))
 
     def matters(self, slip):
@@ -90,13 +89,3 @@ class Store:
             return work(self)
         finally:
             self._held, self._before = held, before
-
-
-def _received(machine, now, kept, slip):
-    _refuse_known_time(kept, slip)
-    return receive(machine, now, kept, slip)
-
-
-def _refuse_known_time(kept, slip):
-    if times_meet(kept, (slip,)):
-        raise Refused(1)

@@ -111,7 +111,7 @@ class EndsTest(Case):
     def test_which_error_goes_first(self):
         for value in NO_STATES:
             self.fails(InvalidQuestion, 1, ends_by_number, newest(), value, None, None)
-        for value in plain.NO_NUMBERS:
+        for value in plain.NO_NUMBERS + (10 ** 18 + 1, 10 ** 30):
             self.fails(InvalidQuestion, 2, ends_by_number, newest(), 0, value, None)
         for value in NO_COMMANDS:
             self.fails(InvalidQuestion, 3, ends_by_number, newest(), 0, 10 ** 18, value)
